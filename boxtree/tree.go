@@ -13,8 +13,8 @@ import (
 // mostKids is how many nodes may lie in a node.
 const mostKids = 4
 
-// Tree holds features. It never changes: With makes another tree, so that
-// whoever has a tree may go on reading it. The tree without a value is empty.
+// Tree holds features. It never changes: With and Without make another tree, so
+// that whoever has a tree may go on reading it. The tree without a value is empty.
 type Tree struct {
 	root *node
 }
@@ -37,6 +37,45 @@ func (t Tree) With(f api.Feature) Tree {
 		return Tree{parts[0]}
 	}
 	return Tree{over(parts)}
+}
+
+// Without is the tree without the feature of this number, if it is there.
+func (t Tree) Without(id int) Tree {
+	// The rest is put in anew: nodes that are left with few kids would make the tree deep.
+	var rest Tree
+	for f := range t.All() {
+		if f.Id != id {
+			rest = rest.With(f)
+		}
+	}
+	return rest
+}
+
+// Find is the feature of this number, and whether it is there.
+func (t Tree) Find(id int) (api.Feature, bool) {
+	for f := range t.All() {
+		if f.Id == id {
+			return f, true
+		}
+	}
+	return api.Feature{}, false
+}
+
+// Count is how many features there are.
+func (t Tree) Count() int {
+	n := 0
+	for range t.All() {
+		n++
+	}
+	return n
+}
+
+// All gives all features, in no order to rely on.
+func (t Tree) All() iter.Seq[api.Feature] {
+	if t.root == nil {
+		return t.Meeting(shape.Box{})
+	}
+	return t.Meeting(t.root.box)
 }
 
 // Meeting gives the features whose boxes meet the box, in no order to rely on.

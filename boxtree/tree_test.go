@@ -61,6 +61,47 @@ func TestTreesDoNotChange(t *testing.T) {
 	}
 }
 
+func TestWithoutTakesOneOut(t *testing.T) {
+	r := rand.New(rand.NewSource(8))
+	world := shape.Box{Right: api.World, Bottom: api.World}
+	var tree Tree
+	var ids []int
+	for range 500 {
+		id := 1 + r.Intn(40)
+		if i := slices.Index(ids, id); i >= 0 && r.Intn(2) == 0 {
+			before := tree
+			tree, ids = tree.Without(id), slices.Delete(ids, i, i+1)
+			if _, ok := before.Find(id); !ok {
+				t.Fatalf("a tree was changed by Without(%d)", id)
+			}
+		} else if i < 0 {
+			tree, ids = tree.Without(id).With(someLine(r, id)), append(ids, id)
+		}
+		slices.Sort(ids)
+		if got := idsMeeting(tree, world); !slices.Equal(got, ids) || tree.Count() != len(ids) {
+			t.Fatalf("%v, %d, want %v", got, tree.Count(), ids)
+		}
+		if tree.root != nil {
+			check(t, tree.root)
+		}
+	}
+}
+
+func TestFind(t *testing.T) {
+	r := rand.New(rand.NewSource(9))
+	var tree Tree
+	for id := 1; id <= 30; id++ {
+		if f, ok := tree.Find(id); ok || f.Id != 0 {
+			t.Fatalf("%d is not there, but found: %v", id, f)
+		}
+		want := someLine(r, id)
+		tree = tree.With(want)
+		if f, ok := tree.Find(id); !ok || f.Id != id || !slices.Equal(f.Places, want.Places) {
+			t.Fatalf("%v, %v, want %v", f, ok, want)
+		}
+	}
+}
+
 func TestMeetingEndsWhenToldTo(t *testing.T) {
 	r := rand.New(rand.NewSource(6))
 	var tree Tree

@@ -5,13 +5,13 @@ import (
 	"strings"
 )
 
-// markDigits is how many digits to the base 16 a sum of 32 bits can have.
-const markDigits = 8
+// MarkDigits is how many digits a mark has: as many as a sum of 32 bits can have to the base 16.
+const MarkDigits = 8
 
 // Mark is the mark of a tile with this body.
 func Mark(body string) string {
 	digits := strconv.FormatUint(uint64(sum(body)), 16)
-	return strings.Repeat("0", markDigits-len(digits)) + digits
+	return strings.Repeat("0", MarkDigits-len(digits)) + digits
 }
 
 func sum(text string) uint32 {

@@ -16,11 +16,16 @@ func AreFeatures(list []api.Feature) bool {
 
 // IsFeature tells whether all that f says may be.
 func IsFeature(f api.Feature) bool {
-	return within(f.Id, 1, api.MaxId) &&
+	return IsId(f.Id) &&
 		within(f.Height, -api.MaxHeight, api.MaxHeight) &&
 		within(f.Colour, 1, api.MaxColour) &&
 		mayHave(f.Kind, len(f.Places)) &&
 		inWorld(f.Places)
+}
+
+// IsId tells whether a feature may have this number.
+func IsId(n int) bool {
+	return within(n, 1, api.MaxId)
 }
 
 func mayHave(kind, places int) bool {
