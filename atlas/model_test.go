@@ -248,6 +248,10 @@ func someRequest(r *rand.Rand) string {
 	case 6:
 		return fmt.Sprintf("get 0 0 0 %s", slowMark("64x0"))
 	}
+	return someGet(r)
+}
+
+func someGet(r *rand.Rand) string {
 	at := someTile(r)
 	return fmt.Sprintf("get %d %d %d", at.Zoom, at.Column, at.Row)
 }
